@@ -1,0 +1,1 @@
+"""Checkdigits: digits whose weighted sum has a fixed remainder."""

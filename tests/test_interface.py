@@ -1,0 +1,76 @@
+"""The interface as it is listed: names, signatures, the files that define them; and the form of the files."""
+
+import ast
+import inspect
+import unittest
+from pathlib import Path
+
+from checkdigits import counting, rules
+from checkdigits.rules import Rule
+
+PACKAGE = Path(inspect.getfile(rules)).parent
+FUNCTIONS = {
+    "count_valid": "(rule)",
+    "nth_valid": "(rule, number)",
+    "valid_number": "(rule, code)",
+    "count_below": "(rule, code)",
+    "next_valid": "(rule, code)",
+}
+OF_RULE = (
+    "weighted", "modulus", "rows", "remainder", "base", "MOST_PLACES",
+    "__init__", "__len__", "__call__", "__contains__", "__invert__", "__eq__",
+)
+LIBRARY = {"heapq", "math", "itertools", "collections", "__future__"}
+
+
+def trees():
+    return [(path, ast.parse(path.read_text("utf-8"))) for path in sorted(PACKAGE.rglob("*.py"))]
+
+
+class InterfaceTest(unittest.TestCase):
+    def test_functions(self):
+        for name, signature in FUNCTIONS.items():
+            function = getattr(counting, name)
+            self.assertEqual(str(inspect.signature(function)), signature)
+            self.assertEqual(function.__module__, "checkdigits.counting")
+
+    def test_rule(self):
+        self.assertEqual(Rule.__module__, "checkdigits.rules")
+        self.assertEqual([name for name in OF_RULE if name not in vars(Rule)], [])
+        self.assertEqual(str(inspect.signature(Rule)), "(modulus, rows, remainder)")
+        self.assertEqual(str(inspect.signature(Rule.weighted)), "(base, modulus, weights, remainder=0)")
+        self.assertEqual(str(inspect.signature(Rule.__call__)), "(self, code)")
+        for name in ("modulus", "rows", "remainder", "base"):
+            self.assertIsInstance(vars(Rule)[name], property)
+
+
+class FormTest(unittest.TestCase):
+    def test_only_python_files(self):
+        others = [path for path in PACKAGE.rglob("*") if path.suffix != ".py" and path.name != "__pycache__"]
+        self.assertEqual([path for path in others if path.suffix != ".pyc"], [])
+
+    def test_signs_and_sizes(self):
+        for path, _ in trees():
+            text = path.read_text("utf-8")
+            self.assertEqual({sign for sign in text if not (sign == "\n" or " " <= sign <= "~")}, set(), path)
+            self.assertLess(len(text.splitlines()), 400, path)
+            self.assertLessEqual(max(len(line) for line in text.splitlines()), 120, path)
+
+    def test_size_of_functions(self):
+        for path, tree in trees():
+            for node in ast.walk(tree):
+                if isinstance(node, ast.FunctionDef):
+                    self.assertLessEqual(node.end_lineno - node.lineno, 39, (path, node.name))
+
+    def test_imports(self):
+        for path, tree in trees():
+            for node in ast.walk(tree):
+                self.assertNotIsInstance(node, ast.Import, path)
+                if isinstance(node, ast.ImportFrom):
+                    self.assertEqual(node.level, 0, path)
+                    self.assertIn(node.module.split(".")[0], {"checkdigits", *LIBRARY}, path)
+                    self.assertNotIn("*", [name.name for name in node.names], path)
+
+
+if __name__ == "__main__":
+    unittest.main()
