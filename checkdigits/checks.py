@@ -1,6 +1,6 @@
 """Tests and checks of the plain numbers that several modules take."""
 
-from checkdigits.errors import InvalidBase, InvalidModulus, InvalidRemainder
+from checkdigits.errors import InvalidBase, InvalidModulus, InvalidNumber, InvalidReach, InvalidRemainder
 
 LEAST_BASE = 2
 GREATEST_BASE = 36
@@ -34,3 +34,13 @@ def check_modulus(modulus):
 def check_remainder(remainder, modulus):
     if not is_integer_within(remainder, 0, modulus - 1):
         raise InvalidRemainder(f"a remainder is an integer from 0 to {modulus - 1}")
+
+
+def check_number(number, many):
+    if not is_integer_within(number, 0, many - 1):
+        raise InvalidNumber(f"of {many} codes, none has this number")
+
+
+def check_reach(reach):
+    if not is_integer(reach) or reach < 0:
+        raise InvalidReach("a reach is an integer of at least 0")

@@ -1,5 +1,6 @@
 """Values that several tests share, and the definitions of the document, written out plainly."""
 
+import unittest
 from itertools import product
 
 from checkdigits.rules import Rule
@@ -72,6 +73,17 @@ def valid_codes(rule):
     return [code for code in all_codes(rule) if plain_sum(rule, code) == rule.remainder]
 
 
+def all_kinds(rule):
+    """All kinds of slips of a rule, in ascending order."""
+    places = range(len(rule))
+    pairs = [(i, j) for i in places for j in places if i < j]
+    return sorted([
+        *[("change", i) for i in places],
+        *[("swap", i, j) for i, j in pairs],
+        *[("twins", i, j) for i, j in pairs],
+    ])
+
+
 def no_codes(rule):
     """Values that are nearly codes of a rule, or not at all; `rule` has at least one place."""
     zeros = (0,) * len(rule)
@@ -106,13 +118,19 @@ def no_codes(rule):
 OTHER_VALUES_WITHOUT_CODES = tuple(value for value in OTHER_VALUES if value != (1, 2, 3, 4))
 
 
-def error_of(function, *values, **named):
+def error_of(function, /, *values, **named):
     """The error that a call raises, or None."""
     try:
         function(*values, **named)
     except Exception as error:
         return error
     return None
+
+
+class RaisingCase(unittest.TestCase):
+    # The names in front of / are free for the arguments of the call.
+    def raises(self, error, function, /, *values, **named):
+        self.assertIs(type(error_of(function, *values, **named)), error, (function, values, named))
 
 
 class Comparing:

@@ -6,19 +6,14 @@ from itertools import product
 from checkdigits.counting import count_below, count_valid, next_valid, nth_valid, valid_number
 from checkdigits.errors import InvalidCode, InvalidNumber, InvalidRule, NotValid
 from checkdigits.rules import Rule
-from tests.samples import NO_INTEGERS, OTHER_VALUES, error_of
+from tests.samples import NO_INTEGERS, OTHER_VALUES, RaisingCase
 from tests.samples import all_codes, large_rules, no_codes, plain_sum, small_rules, valid_codes
 
 RULE = Rule.weighted(10, 11, (1, 2, 3, 4))
 WITH_CODE = (valid_number, count_below, next_valid)
 
 
-class CountingCase(unittest.TestCase):
-    def raises(self, kind, function, *values, **named):
-        self.assertIs(type(error_of(function, *values, **named)), kind, (function, values, named))
-
-
-class SmallRulesTest(CountingCase):
+class SmallRulesTest(RaisingCase):
     """Everything against going through all codes."""
 
     def test_count(self):
@@ -64,7 +59,7 @@ class SmallRulesTest(CountingCase):
             self.assertEqual(sum(count_valid(rule) for rule in rules), 125)
 
 
-class NumbersTest(CountingCase):
+class NumbersTest(RaisingCase):
     def test_first_and_last(self):
         self.assertEqual(count_valid(RULE), 909)
         self.assertEqual(nth_valid(RULE, 0), (0, 0, 0, 0))
@@ -104,7 +99,7 @@ class NumbersTest(CountingCase):
         self.assertEqual(valid_number(rule, (1, 2, 0)), 15)
 
 
-class NextTest(CountingCase):
+class NextTest(RaisingCase):
     def test_a_valid_code_is_its_own(self):
         for code in valid_codes(RULE)[::50]:
             self.assertEqual(next_valid(RULE, code), code)
@@ -124,7 +119,7 @@ class NextTest(CountingCase):
         self.assertIsNone(next_valid(rule, (5, 6, 0)))
 
 
-class LargeRulesTest(CountingCase):
+class LargeRulesTest(RaisingCase):
     """30 places, also with base 36 and modulus 200."""
 
     def test_numbers_there_and_back(self):
@@ -183,7 +178,7 @@ class LargeRulesTest(CountingCase):
             self.assertEqual(next_valid(rule, tops), tops if tops in rule else None)
 
 
-class WrongArgumentsTest(CountingCase):
+class WrongArgumentsTest(RaisingCase):
     def test_no_rules(self):
         for value in (*OTHER_VALUES, RULE.rows, (RULE,), [RULE]):
             self.raises(InvalidRule, count_valid, value)
@@ -207,7 +202,7 @@ class WrongArgumentsTest(CountingCase):
         self.raises(InvalidCode, valid_number, RULE, (0, 0, 0, 10))
 
 
-class CallsTest(CountingCase):
+class CallsTest(RaisingCase):
     """[2]: by position and by name, twice, with arguments that stay as they are."""
 
     def test_by_name(self):

@@ -5,16 +5,43 @@ import inspect
 import unittest
 from pathlib import Path
 
-from checkdigits import counting, rules
+from checkdigits import counting, fixing, gaps, rules, slips, weights
 from checkdigits.rules import Rule
 
 PACKAGE = Path(inspect.getfile(rules)).parent
 FUNCTIONS = {
-    "count_valid": "(rule)",
-    "nth_valid": "(rule, number)",
-    "valid_number": "(rule, code)",
-    "count_below": "(rule, code)",
-    "next_valid": "(rule, code)",
+    counting: {
+        "count_valid": "(rule)",
+        "nth_valid": "(rule, number)",
+        "valid_number": "(rule, code)",
+        "count_below": "(rule, code)",
+        "next_valid": "(rule, code)",
+    },
+    gaps: {
+        "count_fillings": "(rule, partial)",
+        "nth_filling": "(rule, partial, number)",
+        "digits_at": "(rule, partial, place)",
+        "sure_digits": "(rule, partial)",
+    },
+    slips: {
+        "unnoticed": "(rule, kind)",
+        "notices": "(rule, kind)",
+        "unnoticed_kinds": "(rule, reach)",
+        "count_slips": "(rule, kind)",
+    },
+    weights: {
+        "least_divisor": "(base, modulus)",
+        "longest": "(base, modulus, *, twins=False)",
+        "good_weights": "(base, modulus, places, reach, *, twins=False)",
+        "weak_kind": "(base, modulus, weights, reach, *, twins=False)",
+    },
+    fixing: {
+        "sums_of": "(rules, code)",
+        "fixes": "(rules, code)",
+        "tells_changes": "(rules)",
+        "equal_steps": "(rules)",
+        "is_equal_steps": "(rules, value)",
+    },
 }
 OF_RULE = (
     "weighted", "modulus", "rows", "remainder", "base", "MOST_PLACES",
@@ -29,10 +56,11 @@ def trees():
 
 class InterfaceTest(unittest.TestCase):
     def test_functions(self):
-        for name, signature in FUNCTIONS.items():
-            function = getattr(counting, name)
-            self.assertEqual(str(inspect.signature(function)), signature)
-            self.assertEqual(function.__module__, "checkdigits.counting")
+        for module, functions in FUNCTIONS.items():
+            for name, signature in functions.items():
+                function = getattr(module, name)
+                self.assertEqual(str(inspect.signature(function)), signature)
+                self.assertEqual(function.__module__, module.__name__)
 
     def test_rule(self):
         self.assertEqual(Rule.__module__, "checkdigits.rules")

@@ -4,18 +4,13 @@ import unittest
 
 from checkdigits.errors import InvalidBase, InvalidCode, InvalidModulus, InvalidRemainder, InvalidRows, InvalidWeights
 from checkdigits.rules import Rule
-from tests.samples import NO_INTEGERS, OTHER_VALUES, OTHER_VALUES_WITHOUT_CODES, Comparing, error_of
+from tests.samples import NO_INTEGERS, OTHER_VALUES, OTHER_VALUES_WITHOUT_CODES, Comparing, RaisingCase
 from tests.samples import all_codes, large_rules, no_codes, plain_sum, rule_by_formula, small_rules, valid_codes
 
 ROWS = ((0, 1, 2), (2, 0, 1))
 
 
-class RuleCase(unittest.TestCase):
-    def raises(self, kind, function, *values, **named):
-        self.assertIs(type(error_of(function, *values, **named)), kind, (values, named))
-
-
-class MakingTest(RuleCase):
+class MakingTest(RaisingCase):
     def test_parts(self):
         rule = Rule(3, ROWS, 2)
         self.assertEqual((rule.modulus, rule.rows, rule.remainder, rule.base, len(rule)), (3, ROWS, 2, 3, 2))
@@ -109,7 +104,7 @@ class MakingTest(RuleCase):
         self.assertEqual(rows, [[0, 1], [1, 0]])
 
 
-class WeightedTest(RuleCase):
+class WeightedTest(RaisingCase):
     def test_rows(self):
         rule = Rule.weighted(4, 5, (1, 2, 0))
         self.assertEqual(rule.rows, ((0, 1, 2, 3), (0, 2, 4, 1), (0, 0, 0, 0)))
@@ -193,7 +188,7 @@ class WeightedTest(RuleCase):
         self.assertEqual(weights, [1, 2, 3])
 
 
-class SumTest(RuleCase):
+class SumTest(RaisingCase):
     def test_all_codes(self):
         for rule in small_rules():
             for code in all_codes(rule):
@@ -227,7 +222,7 @@ class SumTest(RuleCase):
         self.assertEqual((code, rule), ([1, 2], Rule.weighted(10, 11, (1, 2))))
 
 
-class ContainsTest(RuleCase):
+class ContainsTest(RaisingCase):
     def test_all_codes(self):
         for rule in small_rules():
             self.assertEqual([code for code in all_codes(rule) if code in rule], valid_codes(rule))
@@ -263,7 +258,7 @@ class ContainsTest(RuleCase):
         self.assertEqual((value, rule), ([0, 0], Rule.weighted(10, 11, (1, 2))))
 
 
-class InvertTest(RuleCase):
+class InvertTest(RaisingCase):
     def test_rows_are_reversed(self):
         for rule in small_rules() + large_rules():
             back = ~rule
