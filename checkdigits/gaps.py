@@ -61,7 +61,7 @@ def _is_partial(rule, value):
 
 
 def _digits_left(rule, partial):
-    """For each place the ascending list of the digits that the partial code leaves open."""
+    """For each place the ascending list of the digits that the partial code allows."""
     return [list(range(rule.base)) if digit is None else [digit] for digit in partial]
 
 

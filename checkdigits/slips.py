@@ -1,4 +1,4 @@
-"""Slips: which typing errors a rule notices, and how many it does not notice."""
+"""Slips: which errors in writing a code a rule notices, and how many it does not notice."""
 
 from checkdigits.checks import check_reach, is_integer_within
 from checkdigits.endings import ending_tables
