@@ -49,11 +49,11 @@ class Rule:
     def __call__(self, code):
         """The sum of a code."""
         check_code(self, code)
-        return _sum_of(self, code)
+        return sum_of_digits(self, code)
 
     def __contains__(self, value):
         """Whether any value is a valid code."""
-        return _is_code(self, value) and _sum_of(self, value) == self._remainder
+        return _is_code(self, value) and sum_of_digits(self, value) == self._remainder
 
     def __invert__(self):
         """The rule for the codes that are read backwards."""
@@ -74,7 +74,7 @@ def check_rows(rows, modulus):
 
 
 def check_weights(weights):
-    if not _fits_places(weights) or not all([is_integer(weight) for weight in weights]):
+    if not fits_places(weights) or not all([is_integer(weight) for weight in weights]):
         raise InvalidWeights(f"weights are a tuple of 1 to {Rule.MOST_PLACES} integers")
 
 
@@ -88,12 +88,18 @@ def check_code(rule, code):
         raise InvalidCode(f"a code of this rule is a tuple of {len(rule)} digits of the base {rule.base}")
 
 
-def _fits_places(value):
+def fits_places(value):
+    """Whether any value is a tuple with as many items as a rule can have places."""
     return isinstance(value, tuple) and 1 <= len(value) <= Rule.MOST_PLACES
 
 
+def sum_of_digits(rule, digits):
+    """The sum of a code, or of the digits with which a code begins."""
+    return sum([row[digit] for row, digit in zip(rule.rows, digits)]) % rule.modulus
+
+
 def _are_rows(value, modulus):
-    if not _fits_places(value) or not all([_is_row(row, modulus) for row in value]):
+    if not fits_places(value) or not all([_is_row(row, modulus) for row in value]):
         return False
     base = len(value[0])
     return is_base(base) and all([len(row) == base for row in value])
@@ -113,7 +119,3 @@ def _all_within(values, greatest):
 
 def _weighted_row(base, modulus, weight):
     return tuple([weight * digit % modulus for digit in range(base)])
-
-
-def _sum_of(rule, code):
-    return sum([row[digit] for row, digit in zip(rule.rows, code)]) % rule.modulus

@@ -5,7 +5,9 @@ import inspect
 import unittest
 from pathlib import Path
 
-from checkdigits import counting, fixing, gaps, rules, slips, weights
+from checkdigits import alike, counting, fixing, gaps, rules, slips, texts, weights
+from checkdigits.console import Console
+from checkdigits.entries import Entry
 from checkdigits.rules import Rule
 
 PACKAGE = Path(inspect.getfile(rules)).parent
@@ -42,10 +44,24 @@ FUNCTIONS = {
         "equal_steps": "(rules)",
         "is_equal_steps": "(rules, value)",
     },
+    alike: {
+        "same_codes": "(rule, other)",
+        "telling_code": "(rule, other)",
+    },
+    texts: {
+        "format_code": "(code)",
+        "parse_code": "(text, base)",
+        "parse_partial": "(text, base)",
+        "format_weights": "(base, modulus, weights, remainder)",
+        "parse_weights": "(text)",
+    },
 }
 OF_RULE = (
     "weighted", "modulus", "rows", "remainder", "base", "MOST_PLACES",
     "__init__", "__len__", "__call__", "__contains__", "__invert__", "__eq__",
+)
+OF_ENTRY = (
+    "push", "undo", "open_digits", "ending", "copy_of", "typed", "sum_now", "rule", "__init__", "__len__", "__eq__",
 )
 LIBRARY = {"heapq", "math", "itertools", "collections", "__future__"}
 
@@ -70,6 +86,22 @@ class InterfaceTest(unittest.TestCase):
         self.assertEqual(str(inspect.signature(Rule.__call__)), "(self, code)")
         for name in ("modulus", "rows", "remainder", "base"):
             self.assertIsInstance(vars(Rule)[name], property)
+
+    def test_entry(self):
+        self.assertEqual(Entry.__module__, "checkdigits.entries")
+        self.assertEqual([name for name in OF_ENTRY if name not in vars(Entry)], [])
+        self.assertEqual(str(inspect.signature(Entry)), "(rule)")
+        self.assertEqual(str(inspect.signature(Entry.push)), "(self, *digits)")
+        for name in ("undo", "open_digits", "ending", "copy_of"):
+            self.assertEqual(str(inspect.signature(getattr(Entry, name))), "(self)")
+        for name in ("typed", "sum_now", "rule"):
+            self.assertIsInstance(vars(Entry)[name], property)
+
+    def test_console(self):
+        self.assertEqual(Console.__module__, "checkdigits.console")
+        self.assertIn("execute", vars(Console))
+        self.assertEqual(str(inspect.signature(Console)), "()")
+        self.assertEqual(str(inspect.signature(Console.execute)), "(self, line)")
 
 
 class FormTest(unittest.TestCase):
